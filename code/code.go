@@ -36,6 +36,16 @@ func IsWord(v int) bool {
 	return v >= 0 && v <= MaxWord
 }
 
+// AreWords tells whether all of list are in the range of words.
+func AreWords(list []int) bool {
+	for _, v := range list {
+		if !IsWord(v) {
+			return false
+		}
+	}
+	return true
+}
+
 // The letters of a row's parts.
 const (
 	Register = 'r'
@@ -101,4 +111,35 @@ func IsInstruction(f Fields) bool {
 		}
 	}
 	return true
+}
+
+// IsPlain tells whether a word with these fields is an instruction that changes a register and nothing else.
+func IsPlain(f Fields) bool {
+	return (f.Op == api.Set || f.Op == api.Load || IsArithmetic(f.Op)) && IsInstruction(f)
+}
+
+// IsArithmetic tells whether an OP gives a word out of two others.
+func IsArithmetic(op int) bool {
+	return op == api.Add || op == api.Sub || op == api.Xor || op == api.Mul
+}
+
+// Reckon gives x op y, for an OP that IsArithmetic. It works on 32 bits, as these wrap round where words do.
+func Reckon(op, x, y int) int {
+	a, b := uint32(x), uint32(y)
+	switch op {
+	case api.Add:
+		a += b
+	case api.Sub:
+		a -= b
+	case api.Xor:
+		a ^= b
+	case api.Mul:
+		a *= b
+	}
+	return int(a)
+}
+
+// Address gives the place of memory that a load or a store is about.
+func Address(base, k int) int {
+	return (base + k) % api.Size
 }

@@ -77,3 +77,17 @@ func TestIsInstruction(t *testing.T) {
 		}
 	}
 }
+
+func TestIsPlain(t *testing.T) {
+	for op := range 256 {
+		if got := IsPlain(Fields{Op: op, A: 7}); got != (op >= api.Set && op <= api.Load) {
+			t.Errorf("IsPlain of the OP %d = %v", op, got)
+		}
+		if got := IsPlain(Fields{Op: op, A: 8}); got {
+			t.Errorf("IsPlain of the OP %d with a register 8 = %v", op, got)
+		}
+		if got := IsArithmetic(op); got != (op >= api.Add && op <= api.Mul) {
+			t.Errorf("IsArithmetic(%d) = %v", op, got)
+		}
+	}
+}

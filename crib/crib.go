@@ -4,7 +4,11 @@ package crib
 import (
 	"crib/api"
 	"crib/assembler"
+	"crib/block"
 	"crib/machine"
+	"crib/meaning"
+	"crib/plans"
+	"crib/translator"
 )
 
 // Assemble tells the words of a program's text (P4).
@@ -14,21 +18,21 @@ func Assemble(s string) ([]int, api.Place, api.Errno) { return assembler.Assembl
 func Step(s api.State) (api.State, api.Errno) { return machine.Step(s) }
 
 // Block tells the words of the block at a place of the memory (P5).
-func Block(mem [api.Size]int, pc int) (string, api.Errno) { return "", api.OK }
+func Block(mem [api.Size]int, pc int) (string, api.Errno) { return block.Block(mem, pc) }
 
 // Puts tells the puts of a plan (P6).
-func Puts(plan string) ([]api.Put, api.Errno) { return nil, api.OK }
+func Puts(plan string) ([]api.Put, api.Errno) { return plans.Puts(plan) }
 
 // Do does a plan (P6).
 func Do(plan string, regs [api.Regs]int, mem [api.Size]int) ([api.Regs]int, api.Errno) {
-	return [api.Regs]int{}, api.OK
+	return plans.Do(plan, regs, mem)
 }
 
 // Accept tells whether a plan is one of a block (P7).
-func Accept(words string, plan string) api.Errno { return api.OK }
+func Accept(words string, plan string) api.Errno { return meaning.Accept(words, plan) }
 
 // Translate tells a block's own plan (P8).
-func Translate(words string) (string, api.Errno) { return "", api.OK }
+func Translate(words string) (string, api.Errno) { return translator.Translate(words) }
 
 // Sum tells the check sum of a text (P9).
 func Sum(s string) int { return 0 }

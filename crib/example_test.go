@@ -26,3 +26,22 @@ end:    halt`)
 	// 5 {0 0} 0
 	// [0 70 7 70 0 0 0 0] 4 1 0
 }
+
+func ExampleTranslate() {
+	words, _, _ := crib.Assemble("set r1 5\nadd r2 r1 r1\nset r1 6\nstore r2 r1 0")
+	var mem [api.Size]int
+	copy(mem[:], words)
+	block, err := crib.Block(mem, 0)
+	fmt.Printf("%x %d\n", block, err)
+	plan, err := crib.Translate(block)
+	fmt.Printf("%x %d\n", plan, err)
+	fmt.Println(crib.Accept(block, plan))
+	fmt.Println(crib.Do(plan, [api.Regs]int{}, mem))
+	fmt.Println(crib.Puts(plan))
+	// Output:
+	// 01100005022110000110000607210000 0
+	// 010200000000000a0101000000000006 0
+	// 0
+	// [0 6 10 0 0 0 0 0] 0
+	// [{1 2 0 0 10} {1 1 0 0 6}] 0
+}

@@ -24,18 +24,9 @@ func Step(s api.State) (api.State, api.Errno) {
 
 // IsState tells whether all of s is in its range.
 func IsState(s api.State) bool {
-	return areWords(s.Regs[:]) && areWords(s.Mem[:]) &&
+	return code.AreWords(s.Regs[:]) && code.AreWords(s.Mem[:]) &&
 		s.Pc >= 0 && s.Pc < api.Size &&
 		s.Stop >= api.Running && s.Stop <= api.Trapped
-}
-
-func areWords(list []int) bool {
-	for _, v := range list {
-		if !code.IsWord(v) {
-			return false
-		}
-	}
-	return true
 }
 
 // perform does an instruction on a machine that runs.
@@ -48,11 +39,11 @@ func perform(s api.State, f code.Fields) api.State {
 	case api.Set:
 		s.Regs[f.A] = f.K
 	case api.Add, api.Sub, api.Xor, api.Mul:
-		s.Regs[f.A] = reckon(f.Op, s.Regs[f.B], s.Regs[f.C])
+		s.Regs[f.A] = code.Reckon(f.Op, s.Regs[f.B], s.Regs[f.C])
 	case api.Load:
-		s.Regs[f.A] = s.Mem[address(s.Regs[f.B], f.K)]
+		s.Regs[f.A] = s.Mem[code.Address(s.Regs[f.B], f.K)]
 	case api.Store:
-		s.Mem[address(s.Regs[f.B], f.K)] = s.Regs[f.A]
+		s.Mem[code.Address(s.Regs[f.B], f.K)] = s.Regs[f.A]
 	case api.Same:
 		if s.Regs[f.A] == s.Regs[f.B] {
 			next = f.K % api.Size
@@ -64,24 +55,4 @@ func perform(s api.State, f code.Fields) api.State {
 	}
 	s.Pc = next
 	return s
-}
-
-// reckon gives x op y. It works on 32 bits, as these wrap round where words do.
-func reckon(op, x, y int) int {
-	a, b := uint32(x), uint32(y)
-	switch op {
-	case api.Add:
-		a += b
-	case api.Sub:
-		a -= b
-	case api.Xor:
-		a ^= b
-	case api.Mul:
-		a *= b
-	}
-	return int(a)
-}
-
-func address(base, k int) int {
-	return (base + k) % api.Size
 }
