@@ -7,7 +7,8 @@ import (
 	"crib/number"
 )
 
-const wordLen = 4
+// WordLen is the bytes of a word in a text.
+const WordLen = 4
 
 // Words are those of a block: the first Len of List. The others are 0, so that blocks are the same just if their Words are, by ==.
 type Words struct {
@@ -35,14 +36,14 @@ func At(mem [api.Size]int, pc int) Words {
 // Read gives the words of a block whose text s is, if it is one.
 func Read(s string) (Words, bool) {
 	var w Words
-	if len(s) == 0 || len(s)%wordLen != 0 {
+	if len(s) == 0 || len(s)%WordLen != 0 {
 		return w, false
 	}
-	for at := 0; at < len(s); at += wordLen {
+	for at := 0; at < len(s); at += WordLen {
 		if !w.mayGrow() {
 			return Words{}, false
 		}
-		w.add(number.Read(s[at : at+wordLen]))
+		w.add(number.Read(s[at : at+WordLen]))
 	}
 	return w, true
 }
@@ -78,7 +79,7 @@ func (w Words) Plain() []code.Fields {
 func (w Words) Text() string {
 	var b []byte
 	for _, word := range w.List[:w.Len] {
-		b = number.Append(b, word, wordLen)
+		b = number.Append(b, word, WordLen)
 	}
 	return string(b)
 }

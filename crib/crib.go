@@ -5,6 +5,8 @@ import (
 	"crib/api"
 	"crib/assembler"
 	"crib/block"
+	"crib/device"
+	"crib/frame"
 	"crib/machine"
 	"crib/meaning"
 	"crib/plans"
@@ -35,37 +37,47 @@ func Accept(words string, plan string) api.Errno { return meaning.Accept(words, 
 func Translate(words string) (string, api.Errno) { return translator.Translate(words) }
 
 // Sum tells the check sum of a text (P9).
-func Sum(s string) int { return 0 }
+func Sum(s string) int { return frame.Sum(s) }
 
 // Seal tells a frame (P9).
-func Seal(kind int, payload string) (string, api.Errno) { return "", api.OK }
+func Seal(kind int, payload string) (string, api.Errno) { return frame.Seal(kind, payload) }
 
 // Scan tells what an area's bytes tell (P10).
-func Scan(s string) api.Area { return api.Area{} }
+func Scan(s string) api.Area { return frame.Scan(s) }
 
 // Device is two areas of bytes.
-type Device struct{}
+type Device struct {
+	inner *device.Device
+}
 
 // NewDevice makes a device (P11).
-func NewDevice() *Device { return nil }
+func NewDevice() *Device { return &Device{device.New()} }
+
+// within gives the device itself, nil for one that is nil.
+func (d *Device) within() *device.Device {
+	if d == nil {
+		return nil
+	}
+	return d.inner
+}
 
 // Add lays bytes behind those of an area (P11).
-func (d *Device) Add(area int, s string) api.Errno { return api.OK }
+func (d *Device) Add(area int, s string) api.Errno { return d.within().Add(area, s) }
 
 // Clear empties an area (P11).
-func (d *Device) Clear(area int) api.Errno { return api.OK }
+func (d *Device) Clear(area int) api.Errno { return d.within().Clear(area) }
 
 // Sync makes an area's bytes lasting (P11).
-func (d *Device) Sync(area int) api.Errno { return api.OK }
+func (d *Device) Sync(area int) api.Errno { return d.within().Sync(area) }
 
 // Read tells an area's bytes (P11).
-func (d *Device) Read(area int) (string, api.Errno) { return "", api.OK }
+func (d *Device) Read(area int) (string, api.Errno) { return d.within().Read(area) }
 
 // Trouble lets a later turn fail (P12).
-func (d *Device) Trouble(k int) api.Errno { return api.OK }
+func (d *Device) Trouble(k int) api.Errno { return d.within().Trouble(k) }
 
 // Crash loses what does not last (P12).
-func (d *Device) Crash(keep int, junk string) {}
+func (d *Device) Crash(keep int, junk string) { d.within().Crash(keep, junk) }
 
 // Engine is a machine at work over a device.
 type Engine struct{}

@@ -45,3 +45,23 @@ func ExampleTranslate() {
 	// [0 6 10 0 0 0 0 0] 0
 	// [{1 2 0 0 10} {1 1 0 0 6}] 0
 }
+
+func ExampleScan() {
+	block, plan := bytes(loopHead), bytes(loopPlan)
+	d := crib.NewDevice()
+	open, _ := crib.Seal(api.Open, "\x00\x00\x00\x01")
+	entry, _ := crib.Seal(api.Entry, "\x04"+block+plan)
+	fmt.Println(d.Add(0, open+entry))
+	fmt.Println(d.Sync(0))
+	whole, _ := crib.Seal(api.Whole, "")
+	fmt.Println(d.Add(0, whole))
+	d.Crash(3, "junk")
+	s, err := d.Read(0)
+	area := crib.Scan(s)
+	fmt.Println(len(s), err, area.Generation, len(area.List), area.Whole, area.Good)
+	// Output:
+	// 0
+	// 0
+	// 0
+	// 60 0 1 1 false 53
+}
