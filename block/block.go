@@ -50,7 +50,7 @@ func Read(s string) (Words, bool) {
 
 // mayGrow tells whether a word may stand behind those of w.
 func (w Words) mayGrow() bool {
-	return w.Len < api.MaxBlock && w.plainLen() == w.Len
+	return w.Len < api.MaxBlock && w.PlainLen() == w.Len
 }
 
 func (w *Words) add(word int) {
@@ -58,8 +58,8 @@ func (w *Words) add(word int) {
 	w.Len++
 }
 
-// plainLen tells how many words of w are plain: all, or all but the last one.
-func (w Words) plainLen() int {
+// PlainLen tells how many words of w are plain: all, or all but the last one.
+func (w Words) PlainLen() int {
 	if w.Len > 0 && !code.IsPlain(code.Split(w.List[w.Len-1])) {
 		return w.Len - 1
 	}
@@ -69,7 +69,7 @@ func (w Words) plainLen() int {
 // Plain gives the fields of the plain words of w.
 func (w Words) Plain() []code.Fields {
 	var list []code.Fields
-	for _, word := range w.List[:w.plainLen()] {
+	for _, word := range w.List[:w.PlainLen()] {
 		list = append(list, code.Split(word))
 	}
 	return list

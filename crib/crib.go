@@ -6,6 +6,7 @@ import (
 	"crib/assembler"
 	"crib/block"
 	"crib/device"
+	"crib/engine"
 	"crib/frame"
 	"crib/machine"
 	"crib/meaning"
@@ -80,25 +81,41 @@ func (d *Device) Trouble(k int) api.Errno { return d.within().Trouble(k) }
 func (d *Device) Crash(keep int, junk string) { d.within().Crash(keep, junk) }
 
 // Engine is a machine at work over a device.
-type Engine struct{}
+type Engine struct {
+	inner *engine.Engine
+}
+
+// within gives the engine itself, nil for one that is nil.
+func (e *Engine) within() *engine.Engine {
+	if e == nil {
+		return nil
+	}
+	return e.inner
+}
 
 // Start begins a machine at work (P13).
-func Start(d *Device, s api.State) (*Engine, api.Errno) { return nil, api.OK }
+func Start(d *Device, s api.State) (*Engine, api.Errno) {
+	inner, err := engine.Start(d.within(), s)
+	if err != api.OK {
+		return nil, err
+	}
+	return &Engine{inner}, api.OK
+}
 
 // Run makes steps (P14).
-func (e *Engine) Run(fuel int) (int, api.Errno) { return 0, api.OK }
+func (e *Engine) Run(fuel int) (int, api.Errno) { return e.within().Run(fuel) }
 
 // State tells how the machine is (P15).
-func (e *Engine) State() api.State { return api.State{} }
+func (e *Engine) State() api.State { return e.within().State() }
 
 // Counts tells what was done with blocks (P15).
-func (e *Engine) Counts() api.Counts { return api.Counts{} }
+func (e *Engine) Counts() api.Counts { return e.within().Counts() }
 
 // Known tells the blocks and plans that the device has (P15).
-func (e *Engine) Known() []api.Known { return nil }
+func (e *Engine) Known() []api.Known { return e.within().Known() }
 
 // Persist lays new plans into the device (P16).
-func (e *Engine) Persist() api.Errno { return api.OK }
+func (e *Engine) Persist() api.Errno { return e.within().Persist() }
 
 // Compact writes all plans anew (P17).
-func (e *Engine) Compact() api.Errno { return api.OK }
+func (e *Engine) Compact() api.Errno { return e.within().Compact() }

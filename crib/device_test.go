@@ -238,6 +238,7 @@ func TestDevicesAreApart(t *testing.T) {
 type modelDevice struct {
 	lasting, loose [2]string
 	turns          []api.Errno // what the next ones are, behind them all are OK
+	engine         *modelEngine
 }
 
 func (m *modelDevice) turn(area int) api.Errno {
@@ -310,6 +311,7 @@ func (m *modelDevice) crash(keep int, junk string) {
 		m.loose[i] = ""
 	}
 	m.turns = nil
+	m.endEngine()
 }
 
 func TestDeviceAsTheModel(t *testing.T) {

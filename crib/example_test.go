@@ -65,3 +65,32 @@ func ExampleScan() {
 	// 0
 	// 60 0 1 1 false 53
 }
+
+func ExampleStart() {
+	words, _, _ := crib.Assemble("set r1 5\nadd r2 r1 r1\nset r1 6\nstore r2 r1 0\njump 0")
+	var s api.State
+	copy(s.Mem[:], words)
+	d := crib.NewDevice()
+	e, err := crib.Start(d, s)
+	fmt.Println(err)
+	fmt.Println(e.Run(11))
+	fmt.Printf("%+v\n", e.Counts())
+	fmt.Println(e.Persist(), len(e.Known()))
+	d.Crash(0, "")
+	fmt.Println(e.Run(1))
+	e, err = crib.Start(d, s)
+	fmt.Println(err)
+	fmt.Println(e.Run(11))
+	fmt.Printf("%+v\n", e.Counts())
+	fmt.Println(e.State().Pc, e.State().Regs, e.State().Mem[6])
+	// Output:
+	// 0
+	// 11 0
+	// {Used:2 Served:0 Refused:0 Translated:2 Waiting:2}
+	// 0 2
+	// 0 17
+	// 0
+	// 11 0
+	// {Used:2 Served:2 Refused:0 Translated:0 Waiting:0}
+	// 1 [0 5 10 0 0 0 0 0] 10
+}

@@ -9,10 +9,14 @@ type area struct {
 	lasting int
 }
 
+// Areas is how many areas a device has.
+const Areas = 2
+
 // Device is two areas of bytes. One that is nil has no areas.
 type Device struct {
-	areas   [2]area
+	areas   [Areas]area
 	trouble int // the turn that fails, counted from the next one as 1; 0, if none does
+	work    int // the number of the engine that works here, or of none since a crash
 }
 
 // New makes a device with empty areas (P11).
@@ -94,7 +98,17 @@ func (d *Device) Crash(keep int, junk string) {
 		d.areas[i].crash(keep, junk)
 	}
 	d.trouble = 0
+	d.work++
 }
+
+// Engage gives a number to an engine that begins to work here. The engine before is over by that.
+func (d *Device) Engage() int {
+	d.work++
+	return d.work
+}
+
+// Works tells whether the engine of that number works here still: no other has begun, and the device has not crashed.
+func (d *Device) Works(number int) bool { return number == d.work }
 
 // crash keeps of the bytes that do not last the first ones alone, and lays junk in place of the others.
 func (a *area) crash(keep int, junk string) {
